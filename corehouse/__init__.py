@@ -1,0 +1,1 @@
+"""Corehouse: one small machine shared by turns, each user as if alone."""

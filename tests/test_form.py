@@ -1,0 +1,151 @@
+"""The rules of ../shared/LANGUAGE.md that can be seen file by file; the rule's number stands by each."""
+
+import ast
+import builtins
+import pathlib
+import re
+import unittest
+
+PACKAGE = pathlib.Path(__file__).resolve().parent.parent / "corehouse"
+
+ALLOWED = """
+Module FunctionDef arguments arg ClassDef Lambda Return Assign AugAssign AnnAssign For While If Raise Try
+ExceptHandler ImportFrom alias Expr Pass Break Continue BoolOp And Or BinOp Add Sub Mult FloorDiv Mod Pow
+BitAnd BitOr BitXor LShift RShift UnaryOp Not USub UAdd Invert IfExp Dict Set List Tuple ListComp
+comprehension Compare Eq NotEq Lt LtE Gt GtE Is IsNot In NotIn Call keyword JoinedStr FormattedValue
+Constant Attribute Subscript Slice Name Load Store
+""".split()
+
+BUILT_IN = """
+len range enumerate zip min max sum abs sorted reversed int str bool list tuple dict set frozenset isinstance
+ord repr any all divmod Exception ValueError TypeError KeyError IndexError LookupError ZeroDivisionError
+ArithmeticError OverflowError RuntimeError NotImplementedError AttributeError StopIteration object
+""".split()
+
+METHODS = ["__init__", "__eq__", "__repr__", "__str__", "__len__"]
+
+BAD_WORDS = re.compile(
+    r"\b(type|typing|typing_extensions|enum|Enum|IntEnum|StrEnum|Flag|IntFlag|Generic|Protocol|ABC|ABCMeta"
+    r"|namedtuple|NamedTuple|TypedDict|TYPE_CHECKING|abstractmethod)\b|dataclass|overload|contextmanager"
+)
+BAD_NAMES = """
+register mro elements open input version_info with_traceback add_note format format_map attrgetter breakpoint
+builtins compile copyright credits delattr dir eval exec exit gc getattr globals hasattr help id importlib
+license locals methodcaller os quit setattr super vars
+""".split()
+
+
+def nodes(tree, *kinds):
+    return [node for node in ast.walk(tree) if isinstance(node, kinds)]
+
+
+def names_bound(tree):
+    bound = [node.id for node in nodes(tree, ast.Name) if isinstance(node.ctx, ast.Store)]
+    bound += [node.arg for node in nodes(tree, ast.arg)]
+    bound += [node.name for node in nodes(tree, ast.FunctionDef, ast.ClassDef)]
+    return bound
+
+
+class FormTest(unittest.TestCase):
+    def setUp(self):
+        self.files = {}
+        for path in sorted(PACKAGE.glob("*.py")):
+            text = path.read_bytes().decode("ascii")
+            self.files[path.name] = (text, ast.parse(text))
+
+    def each(self):
+        for name, (text, tree) in self.files.items():
+            with self.subTest(file=name):
+                yield name, text, tree
+
+    def test_files(self):
+        """L1, L14"""
+        for path in PACKAGE.iterdir():
+            if path.name != "__pycache__":
+                self.assertRegex(path.name, r"^[a-z0-9_]+\.py$")
+        self.assertIn("__init__.py", self.files)
+
+    def test_signs_sizes_and_words(self):
+        """L10, L14, L17"""
+        for name, text, tree in self.each():
+            rows = text.split("\n")
+            self.assertRegex(text, r"\A[\n -~]*\Z")
+            self.assertLessEqual(len(rows), 400)
+            self.assertLessEqual(max(len(row) for row in rows), 120)
+            self.assertIsNone(BAD_WORDS.search(text))
+            for node in nodes(tree, ast.FunctionDef):
+                self.assertLessEqual(node.end_lineno - node.lineno + 1, 40, node.name)
+
+    def test_statements_and_expressions(self):
+        """L6, L7, L20"""
+        for name, text, tree in self.each():
+            for node in nodes(tree, ast.AST):
+                self.assertIn(type(node).__name__, ALLOWED, getattr(node, "lineno", None))
+            for node in nodes(tree, ast.Assign):
+                self.assertEqual(len(node.targets), 1, node.lineno)
+            for node in nodes(tree, ast.For, ast.While):
+                self.assertEqual(node.orelse, [], node.lineno)
+            for node in nodes(tree, ast.Constant):
+                self.assertIn(type(node.value), (int, str, bool, type(None)), node.lineno)
+            for node in nodes(tree, ast.Compare):
+                if any(isinstance(sign, (ast.Is, ast.IsNot)) for sign in node.ops):
+                    self.assertIn(getattr(node.comparators[0], "value", 0), (None, True, False), node.lineno)
+
+    def test_imports(self):
+        """L2, L16"""
+        for name, text, tree in self.each():
+            for node in nodes(tree, ast.ImportFrom):
+                self.assertIn(node, tree.body)
+                self.assertEqual(node.level, 0)
+                parts = node.module.split(".")
+                self.assertEqual(parts[0], "corehouse")
+                self.assertEqual(len(parts), 2)
+                drawn_from = self.files[parts[1] + ".py"][1]
+                defined = [kind.name for kind in drawn_from.body if isinstance(kind, (ast.FunctionDef, ast.ClassDef))]
+                defined += [kind.targets[0].id for kind in drawn_from.body if isinstance(kind, ast.Assign)]
+                for drawn in node.names:
+                    self.assertIn(drawn.name, defined)
+
+    def test_names(self):
+        """L8, L12, L15, L17"""
+        for name, text, tree in self.each():
+            at_top = [node.name for node in nodes(tree, ast.ClassDef)]
+            at_top += [drawn.asname or drawn.name for node in nodes(tree, ast.ImportFrom) for drawn in node.names]
+            for bound in names_bound(tree):
+                if bound not in METHODS:
+                    self.assertRegex(bound, r"^[A-Za-z][A-Za-z0-9_]*$")
+                    self.assertFalse(hasattr(builtins, bound), bound)
+            local = [node.arg for node in nodes(tree, ast.arg)]
+            local += [node.id for node in nodes(tree, ast.Name) if isinstance(node.ctx, ast.Store)]
+            self.assertEqual(set(local) & set(at_top), set())
+            known = names_bound(tree) + at_top + BUILT_IN
+            for node in nodes(tree, ast.Name):
+                self.assertIn(node.id, known, node.lineno)
+                self.assertNotIn(node.id, BAD_NAMES, node.lineno)
+            for node in nodes(tree, ast.Attribute):
+                self.assertNotIn(node.attr, BAD_NAMES[:10], node.lineno)
+                self.assertTrue(node.attr in METHODS or not node.attr.startswith("_"), node.lineno)
+
+    def test_top_of_a_file(self):
+        """L3, L4, L5, L15, L21"""
+        for name, text, tree in self.each():
+            kinds = (ast.ImportFrom, ast.FunctionDef, ast.ClassDef, ast.Assign)
+            self.assertIsNotNone(ast.get_docstring(tree))
+            for node in tree.body[1:]:
+                self.assertIsInstance(node, kinds)
+            bound = [node.name for node in tree.body if isinstance(node, (ast.FunctionDef, ast.ClassDef))]
+            bound += [node.targets[0].id for node in tree.body if isinstance(node, ast.Assign)]
+            self.assertEqual(len(bound), len(set(bound)))
+            for node in nodes(tree, ast.FunctionDef, ast.ClassDef):
+                self.assertEqual(node.decorator_list, [])
+            for node in nodes(tree, ast.ClassDef):
+                self.assertIn(node, tree.body)
+                self.assertLessEqual(len(node.bases), 1)
+                for inner in node.body:
+                    self.assertIsInstance(inner, (ast.FunctionDef, ast.Pass))
+            for node in nodes(tree, ast.arguments):
+                self.assertEqual((node.vararg, node.kwarg, node.kwonlyargs, node.posonlyargs), (None, None, [], []))
+
+
+if __name__ == "__main__":
+    unittest.main()
