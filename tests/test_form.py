@@ -1,4 +1,4 @@
-"""The rules of ../shared/LANGUAGE.md that can be seen file by file; the rule's number stands by each."""
+"""Some of the rules of ../shared/LANGUAGE.md, each in part; the numbers stand by the tests."""
 
 import ast
 import builtins
@@ -127,7 +127,7 @@ class FormTest(unittest.TestCase):
                 self.assertTrue(node.attr in METHODS or not node.attr.startswith("_"), node.lineno)
 
     def test_top_of_a_file(self):
-        """L3, L4, L5, L15, L21"""
+        """L3, L4, L5, L15"""
         for name, text, tree in self.each():
             kinds = (ast.ImportFrom, ast.FunctionDef, ast.ClassDef, ast.Assign)
             self.assertIsNotNone(ast.get_docstring(tree))
