@@ -1,6 +1,6 @@
 import unittest
 
-from machines import BITS, MachineChecks, machine_with, told
+from helpers import BITS, MachineChecks, machine_with, told
 
 TOTALS = (0, 1, 511, 512, 1022, 1023)
 MARKS = (0, 1)

@@ -34,6 +34,26 @@ builtins compile copyright credits delattr dir eval exec exit gc getattr globals
 license locals methodcaller os quit setattr super vars
 """.split()
 
+# L25: the methods of Python's own values that are called.
+OWN_METHODS = """
+append clear copy count endswith extend find get index insert isalnum isalpha isdigit islower isspace isupper
+items join keys ljust lower lstrip partition pop remove replace reverse rfind rjust rpartition rsplit rstrip
+setdefault split splitlines startswith strip update upper values zfill bit_length
+""".split()
+# L26: the names of Python's own values that a value of an object may have all the same.
+FREE_VALUES = "count index title find get join lower upper split strip copy add".split()
+TAKEN_VALUES = {name for kind in (str, int, list, tuple, dict, set, frozenset, bytes) for name in dir(kind)}
+KEYWORDS = {
+    "sorted": ["key", "reverse"],
+    "min": ["key", "default"],
+    "max": ["key", "default"],
+    "sum": ["start"],
+    "enumerate": ["start"],
+    "zip": ["strict"],
+}
+WALKED = ("zip", "enumerate", "reversed", "range")
+WALKED_IN = ("list", "tuple", "dict", "sorted", "sum", "any", "all", "enumerate", "zip", "min", "max")
+
 
 def nodes(tree, *kinds):
     return [node for node in ast.walk(tree) if isinstance(node, kinds)]
@@ -44,6 +64,15 @@ def names_bound(tree):
     bound += [node.arg for node in nodes(tree, ast.arg)]
     bound += [node.name for node in nodes(tree, ast.FunctionDef, ast.ClassDef)]
     return bound
+
+
+def called(node):
+    """The name that a call calls, or None."""
+    return node.func.id if isinstance(node, ast.Call) and isinstance(node.func, ast.Name) else None
+
+
+def drawn_files(tree):
+    return [node.module.split(".")[1] + ".py" for node in nodes(tree, ast.ImportFrom)]
 
 
 class FormTest(unittest.TestCase):
@@ -145,6 +174,61 @@ class FormTest(unittest.TestCase):
                     self.assertIsInstance(inner, (ast.FunctionDef, ast.Pass))
             for node in nodes(tree, ast.arguments):
                 self.assertEqual((node.vararg, node.kwarg, node.kwonlyargs, node.posonlyargs), (None, None, [], []))
+
+    def test_no_two_files_draw_from_one_another(self):
+        """L16"""
+        for name, text, tree in self.each():
+            reached = []
+            ahead = drawn_files(tree)
+            while ahead:
+                file = ahead.pop()
+                if file not in reached:
+                    reached.append(file)
+                    ahead += drawn_files(self.files[file][1])
+            self.assertNotIn(name, reached)
+
+    def test_methods_and_values(self):
+        """L18, L25, L26"""
+        methods = []
+        values = []
+        for text, tree in self.files.values():
+            for kind in nodes(tree, ast.ClassDef):
+                methods += [inner.name for inner in kind.body if isinstance(inner, ast.FunctionDef)]
+            values += [node.attr for node in nodes(tree, ast.Attribute) if isinstance(node.ctx, ast.Store)]
+        self.assertEqual(set(methods) & set(values), set())
+        self.assertEqual((set(values) & TAKEN_VALUES) - set(FREE_VALUES), set())
+        for name, text, tree in self.each():
+            for node in nodes(tree, ast.Call):
+                if isinstance(node.func, ast.Attribute):
+                    self.assertIn(node.func.attr, OWN_METHODS + methods, node.lineno)
+
+    def test_keywords(self):
+        """L22"""
+        for name, text, tree in self.each():
+            for node in nodes(tree, ast.Call):
+                known = KEYWORDS.get(called(node), [])
+                if called(node) in BUILT_IN or isinstance(node.func, ast.Attribute):
+                    for word in node.keywords:
+                        self.assertIn(word.arg, known, node.lineno)
+
+    def test_walked_at_once(self):
+        """L23"""
+        for name, text, tree in self.each():
+            walked = [node.iter for node in nodes(tree, ast.For, ast.comprehension)]
+            walked += [node.args[0] for node in nodes(tree, ast.Call) if called(node) in WALKED_IN and node.args]
+            for node in nodes(tree, ast.Call):
+                if called(node) in WALKED:
+                    self.assertIn(node, walked, node.lineno)
+
+    def test_numbers_and_texts(self):
+        """L27"""
+        for name, text, tree in self.each():
+            for node in nodes(tree, ast.Constant):
+                if isinstance(node.value, str):
+                    self.assertNotIn("%", node.value, node.lineno)
+            for node in nodes(tree, ast.BinOp):
+                if isinstance(node.op, ast.Pow):
+                    self.assertIn(getattr(node.right, "value", None), range(65), node.lineno)
 
 
 if __name__ == "__main__":

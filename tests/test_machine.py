@@ -1,7 +1,7 @@
 import unittest
 
 from corehouse.machine import Machine, deed
-from machines import ADD, AND, ASK, BITS, CALL, GO, PUT, RISE, MachineChecks, machine_with, state, told
+from helpers import ADD, AND, ASK, BITS, CALL, GO, PUT, RISE, MachineChecks, machine_with, state, told
 
 NOTHING = told(BITS, 0, 0)
 ALWAYS_SKIP = told(BITS, 1, 4)
