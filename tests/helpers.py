@@ -1,8 +1,10 @@
-"""Helpers for the tests of the machine, of a user and of a house."""
+"""Helpers for the tests of the machine, of a user, of a house and of texts."""
 
-from corehouse.house import load, room_of, seen
+from corehouse.errors import BadText, CoreError
+from corehouse.house import diary, load, room_of, seen
 from corehouse.machine import Machine, deed
 from corehouse.people import happen, person_of, picture
+from corehouse.texts import assembled
 
 AND, ADD, RISE, PUT, CALL, GO, ASK, BITS = range(8)
 HEARD, HEAR, ROOM, SAY, SLEEP, FETCH, STORE, STOP, LOOK = range(9)
@@ -179,3 +181,77 @@ def rooms_of(house, users):
 
 def states(house, users):
     return [seen(house, user)[FIELDS.index("state")] for user in range(users)]
+
+
+def whole(house, users):
+    """All that is seen of a house."""
+    numbers = (turns(house), house.steps, house.idle, house.ticks)
+    return (numbers, [(seen(house, user), diary(house, user), room_of(house, user)) for user in range(users)])
+
+
+def chance_cells(chance):
+    """Cells with many asks, letters and loops."""
+    cells = []
+    for number in range(64):
+        what = chance.randrange(10)
+        if what < 4:
+            cells.append(told(ASK, chance.randrange(2), chance.choice((0, 1, 1, 2, 3, 3, 3, 4, 5, 6, 7, 8, 9, 63))))
+        elif what < 5:
+            cells.append(told(BITS, chance.randrange(2), chance.randrange(64)))
+        elif what < 6:
+            cells.append(told(GO, 0, chance.randrange(64)))
+        elif what < 7:
+            cells.append(told(BITS, 0, 36))
+        else:
+            cells.append(chance.randrange(1024))
+    return cells
+
+
+TALKER = {
+    0: told(ASK, 0, SAY),
+    1: NOTHING + 4,
+    2: told(GO, 0, 0),
+}
+ECHO = {
+    0: told(ASK, 0, HEAR),
+    1: told(ASK, 0, SAY),
+    2: told(GO, 0, 0),
+}
+KEEPER = {
+    0: told(ASK, 0, HEAR),
+    1: told(PUT, 0, 40),
+    2: told(ASK, 0, STORE),
+    3: 40,
+    4: told(ASK, 0, FETCH),
+    5: 55,
+    6: told(ADD, 0, 55),
+    7: told(ASK, 0, SLEEP),
+    8: told(ADD, 0, 62),
+    9: told(ASK, 0, SAY),
+    10: told(ASK, 0, STOP),
+    62: 300,
+}
+PROGRAMS = (SPIN, HALT, LISTEN, TALK, TALKER, ECHO, KEEPER, nap_of(1), nap_of(2), nap_of(30))
+
+
+class TextChecks:
+    def check_text(self, text, cells):
+        """The text gives cells that are 0 but those of the dict."""
+        made = assembled(text)
+        self.assertEqual(made, cells_with(cells), text)
+        self.check_made(made)
+
+    def check_made(self, made):
+        self.assertIs(type(made), list)
+        self.assertEqual(len(made), 64)
+        self.assertEqual({type(word) for word in made}, {int})
+
+    def check_refused(self, text, refusal, line):
+        with self.assertRaises(ValueError, msg=text) as caught:
+            assembled(text)
+        error = caught.exception
+        self.assertEqual((type(error).__name__, error.line), (refusal.__name__, line), text)
+        self.assertIs(type(error), refusal)
+        self.assertIs(type(error.line), int)
+        self.assertIsInstance(error, BadText)
+        self.assertIsInstance(error, CoreError)

@@ -6,28 +6,19 @@ import unittest
 from corehouse.house import House, diary, key, load, room_of, run, seen, set_switches, start
 from corehouse.people import Person, alone, happen, picture
 from helpers import (
-    ADD,
-    ASK,
-    BITS,
-    FETCH,
-    GO,
+    ECHO,
     HALT,
-    HEAR,
+    KEEPER,
     LISTEN,
-    NOTHING,
-    PUT,
-    SAY,
-    SLEEP,
+    PROGRAMS,
     SPIN,
     STATES,
-    STOP,
-    STORE,
-    TALK,
+    TALKER,
     cells_with,
+    chance_cells,
     load_all,
     nap_of,
     rooms_of,
-    told,
     turns,
 )
 
@@ -184,51 +175,6 @@ class Model:
     def turns(self):
         left = 0 if self.runs is None else self.quantum - (self.ticks - self.since)
         return (self.runs, self.row(), left, len(self.comings) % self.rooms, len(self.comings))
-
-
-def chance_cells(chance):
-    """Cells with many asks, letters and loops."""
-    cells = []
-    for number in range(64):
-        what = chance.randrange(10)
-        if what < 4:
-            cells.append(told(ASK, chance.randrange(2), chance.choice((0, 1, 1, 2, 3, 3, 3, 4, 5, 6, 7, 8, 9, 63))))
-        elif what < 5:
-            cells.append(told(BITS, chance.randrange(2), chance.randrange(64)))
-        elif what < 6:
-            cells.append(told(GO, 0, chance.randrange(64)))
-        elif what < 7:
-            cells.append(told(BITS, 0, 36))
-        else:
-            cells.append(chance.randrange(1024))
-    return cells
-
-
-TALKER = {
-    0: told(ASK, 0, SAY),
-    1: NOTHING + 4,
-    2: told(GO, 0, 0),
-}
-ECHO = {
-    0: told(ASK, 0, HEAR),
-    1: told(ASK, 0, SAY),
-    2: told(GO, 0, 0),
-}
-KEEPER = {
-    0: told(ASK, 0, HEAR),
-    1: told(PUT, 0, 40),
-    2: told(ASK, 0, STORE),
-    3: 40,
-    4: told(ASK, 0, FETCH),
-    5: 55,
-    6: told(ADD, 0, 55),
-    7: told(ASK, 0, SLEEP),
-    8: told(ADD, 0, 62),
-    9: told(ASK, 0, SAY),
-    10: told(ASK, 0, STOP),
-    62: 300,
-}
-PROGRAMS = (SPIN, HALT, LISTEN, TALK, TALKER, ECHO, KEEPER, nap_of(1), nap_of(2), nap_of(30))
 
 
 class Pair:

@@ -116,6 +116,12 @@ class FormTest(unittest.TestCase):
                 self.assertEqual(node.orelse, [], node.lineno)
             for node in nodes(tree, ast.Constant):
                 self.assertIn(type(node.value), (int, str, bool, type(None)), node.lineno)
+            for node in nodes(tree, ast.ListComp):
+                self.assertEqual(len(node.generators), 1, node.lineno)
+                self.assertLessEqual(len(node.generators[0].ifs), 1, node.lineno)
+            for node in nodes(tree, ast.FormattedValue):
+                self.assertIsInstance(node.value, ast.Name, node.lineno)
+                self.assertIsNone(node.format_spec, node.lineno)
             for node in nodes(tree, ast.Compare):
                 if any(isinstance(sign, (ast.Is, ast.IsNot)) for sign in node.ops):
                     self.assertIn(getattr(node.comparators[0], "value", 0), (None, True, False), node.lineno)
@@ -165,6 +171,10 @@ class FormTest(unittest.TestCase):
             bound = [node.name for node in tree.body if isinstance(node, (ast.FunctionDef, ast.ClassDef))]
             bound += [node.targets[0].id for node in tree.body if isinstance(node, ast.Assign)]
             self.assertEqual(len(bound), len(set(bound)))
+            for node in tree.body:
+                if isinstance(node, ast.Assign):
+                    # Narrower than the rules: no list and no dict either, so that nothing there can be changed.
+                    self.assertIsInstance(ast.literal_eval(node.value), (int, str, tuple), node.lineno)
             for node in nodes(tree, ast.FunctionDef, ast.ClassDef):
                 self.assertEqual(node.decorator_list, [])
             for node in nodes(tree, ast.ClassDef):
