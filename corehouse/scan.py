@@ -42,8 +42,8 @@ def read_line(row, number):
 
 def pieces_of(row):
     looked_at = row.partition(";")[0]
-    # Split by the blank alone: every sign but blanks and tabs is then looked at as a part of a piece.
-    return [piece for piece in looked_at.replace("\t", " ").split(" ") if piece != ""]
+    # Split by the blank alone: every other sign, a tab too, then stands in a piece, where it is looked at.
+    return [piece for piece in looked_at.split(" ") if piece != ""]
 
 
 def read_label(line, piece):

@@ -61,6 +61,53 @@ class FirstGoingTest(TextChecks, unittest.TestCase):
             self.check_text(f"{FULL}\n{line}", {place: 7 for place in range(64)})
 
 
+class TabsTest(TextChecks, unittest.TestCase):
+    LINES = (
+        "", " ", "a:", "add 5", " add 5 ", "add far 5", "add =5", "add far =5", "a: add 5", "place 5", "a: place 5",
+        "word 5", "word 15+16-here", "ask say", "change", "change zero turn", "test", "test minus not", "a: test",
+    )
+
+    def test_a_tab_at_each_place_of_a_line(self):
+        for line in self.LINES:
+            assembled(line)
+            for place in range(len(line) + 1):
+                for tabs in ("\t", "\t\t", " \t", "\t ", " \t "):
+                    spoiled = line[:place] + tabs + line[place:]
+                    self.check_refused(spoiled, NoDeed, 1)
+                    self.check_refused(spoiled + ";x", NoDeed, 1)
+
+    def test_a_tab_in_the_place_of_each_blank(self):
+        for line in self.LINES:
+            for place, sign in enumerate(line):
+                if sign == " ":
+                    self.check_refused(line[:place] + "\t" + line[place + 1:], NoDeed, 1)
+
+    def test_a_line_of_tabs(self):
+        for line in ("\t", "\t\t", " \t", "\t ", " \t \t ", "\t;", "\t;x", " \t ; x"):
+            self.check_refused(line, NoDeed, 1)
+            self.check_refused(f"word 7\n{line}\nword 8", NoDeed, 2)
+            self.check_refused(f"{FULL}\n{line}", NoDeed, 65)
+
+    def test_tabs_behind_a_semicolon_are_not_looked_at(self):
+        for line in self.LINES:
+            for remark in (";\t", "; \t", ";\tadd 5", ";a:\t;\t", ";\t\t"):
+                self.assertEqual(assembled(line + remark), assembled(line))
+
+    def test_the_first_line_with_a_fault(self):
+        for line in ("word 7\t", "\tword 7", "word\t7", "\t", "a:\tword 7"):
+            for other in ("add 5!", "t:", "place q", "place 64", "word q", "\t"):
+                self.check_refused(f"t:\n{line}\n{other}", NoDeed, 2)
+        self.check_refused("t:\nt:\nword 7\t", Twice, 2)
+        self.check_refused("place q\nword 7\t", NoName, 1)
+        self.check_refused("place 64\nword 7\t", OutOfBounds, 1)
+        self.check_refused("word q\nword 1024\nword 7\t", NoDeed, 3)
+
+    def test_a_tab_in_a_line_with_another_fault(self):
+        for line in ("t:\t", "\tt:", "t:\tword 5", "place q\t", "place\t64", "\tword q", "word 1024\t", "go\t64"):
+            self.check_refused(f"t:\n{line}", NoDeed, 2)
+        self.check_refused(f"{FULL}\nword 5\t", NoDeed, 65)
+
+
 class SecondGoingTest(TextChecks, unittest.TestCase):
     def test_a_name_that_was_not_told(self):
         for line in ("word a", "add a", "add far a", "add =a", "add far =a", "word 5+a", "word b-a", "go here+a"):
@@ -204,7 +251,7 @@ class Second:
     """A text made into cells another way: each line by one pattern, and all faults of a going over gathered."""
 
     def __init__(self, text):
-        self.rows = [" ".join(row.split(";")[0].split()) for row in text.split("\n")]
+        self.rows = [re.sub(" +", " ", row.split(";")[0]).strip(" ") for row in text.split("\n")]
         self.faults = []
         self.labels = {}
         self.cells = {}
@@ -343,9 +390,9 @@ class Drawn:
 
     def line(self, labels):
         pieces = [f"{label}:" for label in labels] + ([self.deed()] if self.chance.randrange(8) else [])
-        line = "".join(self.chance.choice(("", "", " ", "\t")) for count in range(2)) + " ".join(pieces)
+        line = "".join(self.chance.choice(("", "", " ", "   ")) for count in range(2)) + " ".join(pieces)
         if self.chance.randrange(8) == 0:
-            line += self.chance.choice((";", " ; a: remark ; place 99"))
+            line += self.chance.choice((";", ";\t", " ; a: remark\t; place 99"))
         if self.faults and self.chance.randrange(20) == 0:
             return self.spoiled(line)
         return line

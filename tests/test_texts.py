@@ -20,22 +20,22 @@ NO_NAMES = ("abcdefghi", "a23456789", "1a", "9", "0", "", "A", "Ab", "aB", "a_b"
 
 class KindsOfLinesTest(TextChecks, unittest.TestCase):
     def test_nothing(self):
-        for line in ("", " ", "     ", "\t", " \t \t\t", ";", ";;", " ; ", "\t;x", "; add 5", "; place 99", ";a: A ~"):
+        for line in ("", " ", "     ", ";", ";;", " ; ", "  ;x", ";\t", " ; \t x", "; add 5", "; place 99", ";a: A ~"):
             self.check_text(line, {})
             self.check_text(f"{line}\nword 7\n{line}\nword 8\n{line}", {0: 7, 1: 8})
 
     def test_a_label(self):
-        for line in ("a:", " a:", "a: ", "\ta:\t", "a:;", "a: ; b:", "a:;word 3"):
+        for line in ("a:", " a:", "a: ", "  a:  ", "a:;", "a: ; b:", "a:;word 3", "a:;\t"):
             self.check_text(line, {})
             self.check_text(f"word 9\n{line}\nword a+5", {0: 9, 1: 6})
 
     def test_a_deed(self):
-        for line in ("add 5", "  add   5  ", "\tadd\t5\t", "add \t 5", "add 5;", "add 5 ; 6", "add 5;far", " add 5;;:"):
+        for line in ("add 5", "  add   5  ", "add 5;", "add 5 ; 6", "add 5;far", " add 5;;:", "add 5 ;\there"):
             self.check_text(line, {0: 133})
             self.check_text(f"{line}\n{line}", {0: 133, 1: 133})
 
     def test_a_label_and_a_deed(self):
-        for line in ("a: add 5", " a:  add  5 ", "a:\tadd\t5", "a: add 5;", "\ta: add 5 ; b:"):
+        for line in ("a: add 5", " a:  add  5 ", "a: add 5;", "  a: add 5 ; b:", "a: add 5;\tb:"):
             self.check_text(line, {0: 133})
             self.check_text(f"word 9\n{line}\nword a", {0: 9, 1: 133, 2: 1})
 
